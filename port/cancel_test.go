@@ -21,7 +21,7 @@ func TestCancelNothing(t *testing.T) {
 		cancel(t, p, w[0], w[1], api.ErrNotFound)
 	}
 	for _, object := range append(noObjects(), most) {
-		for _, key := range []int{20, 30, 0, least, most} {
+		for _, key := range []int{10, 20, 30, 40, 0, least, most} {
 			cancel(t, p, object, key, api.ErrNotFound)
 		}
 	}
@@ -99,24 +99,50 @@ func TestCancelBoth(t *testing.T) {
 	packets(t, p, Packet{12, 1, 1}, Packet{11, 1, 2})
 }
 
-// P15.3: of the packets with the Source 0, which users queued, those with the key are gone, and leave their places to users.
+// P15.3: users' packets are of no object: no number finds them, and they stay, in order and in their places.
 func TestCancelUsers(t *testing.T) {
-	p := begin(t, 3, 1)
+	objects := append(noObjects(), 1, 2, 3, 7, 8, 9, most)
+	for _, key := range strange() {
+		p := begin(t, 3, 1)
+		queue(t, p, key, 0, api.OK)
+		queue(t, p, 8, 2, api.OK)
+		queue(t, p, key, 3, api.OK)
+		for _, object := range objects {
+			cancel(t, p, object, key, api.ErrNotFound)
+			cancel(t, p, object, 8, api.ErrNotFound)
+		}
+		packets(t, p, Packet{key, 0, 0}, Packet{8, 0, 2}, Packet{key, 0, 3})
+		queue(t, p, 9, 4, api.ErrShouldWait)
+		take(t, p, Packet{key, 0, 0})
+		queue(t, p, 9, 4, api.OK)
+		queue(t, p, 9, 5, api.ErrShouldWait)
+		cancel(t, p, 0, 9, api.ErrNotFound)
+		packets(t, p, Packet{8, 0, 2}, Packet{key, 0, 3}, Packet{9, 0, 4})
+	}
+}
+
+// P15.3: users' packets with the key, beside watches and packets of objects with it: 0 finds none of them, the object its own alone.
+func TestCancelUsersBesideObjects(t *testing.T) {
+	p := begin(t, 2, 2)
 	watches(t, p, 1, 7, 1, api.OK)
-	tell(t, p, 1, 1, 1)
+	watches(t, p, 1, 7, 2, api.OK)
 	queue(t, p, 7, 1, api.OK)
-	queue(t, p, 8, 2, api.OK)
+	tell(t, p, 1, 1, 1)
 	queue(t, p, 7, 3, api.OK)
-	cancel(t, p, 0, 9, api.ErrNotFound)
-	queue(t, p, 9, 4, api.ErrShouldWait)
-	cancel(t, p, 0, 7, api.OK)
-	packets(t, p, Packet{7, 1, 1}, Packet{8, 0, 2})
-	cancel(t, p, 0, 7, api.ErrNotFound)
+	for _, object := range noObjects() {
+		cancel(t, p, object, 7, api.ErrNotFound)
+	}
+	packets(t, p, Packet{7, 0, 1}, Packet{7, 1, 1}, Packet{7, 0, 3})
+	watched(t, p, 1)
 	watches(t, p, 1, 7, 1, api.ErrNoMemory)
-	queue(t, p, 9, 4, api.OK)
-	queue(t, p, 9, 5, api.OK)
-	queue(t, p, 9, 6, api.ErrShouldWait)
-	packets(t, p, Packet{7, 1, 1}, Packet{8, 0, 2}, Packet{9, 0, 4}, Packet{9, 0, 5})
+	cancel(t, p, 1, 7, api.OK)
+	cancel(t, p, 0, 7, api.ErrNotFound)
+	packets(t, p, Packet{7, 0, 1}, Packet{7, 0, 3})
+	watched(t, p)
+	queue(t, p, 7, 4, api.ErrShouldWait)
+	watches(t, p, 1, 7, 1, api.OK)
+	watches(t, p, 1, 7, 1, api.OK)
+	watches(t, p, 1, 7, 1, api.ErrNoMemory)
 }
 
 // P15.3: Forget: all watches of the object are gone, its packets and all others stay.

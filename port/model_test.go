@@ -84,7 +84,7 @@ func (m *model) Cancel(object, key int) api.Status {
 		}
 	}
 	for i := len(m.packets) - 1; i >= 0; i-- {
-		if k := m.packets[i]; k.Source == object && k.Key == key {
+		if k := m.packets[i]; k.Source == object && k.Source > 0 && k.Key == key {
 			m.packets = slices.Delete(m.packets, i, i+1)
 			s = api.OK
 		}
